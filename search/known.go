@@ -17,15 +17,15 @@ type known struct {
 func collect(q api.Query, entries []api.Entry) *known {
 	root := &known{}
 	for i := range entries {
-		if applies(q, entries[i]) {
+		if Applies(q, entries[i]) {
 			root.add(entries[i].Path, &entries[i].Leaf)
 		}
 	}
 	return root
 }
 
-// applies reports whether an entry applies to the part with its path.
-func applies(q api.Query, e api.Entry) bool {
+// Applies reports whether an entry applies to the part with its path.
+func Applies(q api.Query, e api.Entry) bool {
 	n := e.Leaf
 	if len(n.Kids) > 0 || n.Split.Kind != 0 || n.Split.Index != 0 || n.Split.At.Neg || len(n.Split.At.Num)+len(n.Split.At.Den) > 0 {
 		return false
