@@ -1,74 +1,38 @@
-// Package quick implements rational numbers for long computations: numbers with small parts are kept in two words, and only others use layer 3.
+// Package quick implements integers for long computations: small ones are kept in a word, and only others use layers 1 and 2.
 package quick
 
 import (
 	"math/bits"
 
 	"relucert/api"
-	"relucert/rational"
+	"relucert/integer"
+	"relucert/natural"
 )
 
-// Num is a number n/(d+1) without common divisors, or big. The zero value is 0. Numbers are never changed.
-type Num struct {
-	n, d int64
-	big  *api.Rat
+// Int is the number n, or big if that is not nil; then its absolute value is at least 2^63. Numbers are never changed.
+type Int struct {
+	n   int64
+	big *api.Int
 }
 
-// One is the number 1.
-func One() Num { return Num{n: 1} }
+// Small returns a number whose absolute value is less than 2^63.
+func Small(n int) Int { return Int{n: int64(n)} }
 
-// Of returns a canonical number.
-func Of(x api.Rat) Num {
-	if len(x.Num) > 2 || len(x.Den) > 2 {
-		return Num{big: &x}
+// Of returns the number with a canonical magnitude.
+func Of(neg bool, mag api.Nat) Int {
+	if len(mag) <= 2 {
+		if w, _ := natural.Uint(mag); w>>63 == 0 {
+			return signed(neg, w)
+		}
 	}
-	n, d := word(x.Num), word(x.Den)
-	if n>>62 != 0 || d>>62 != 0 {
-		return Num{big: &x}
-	}
-	if d == 0 {
-		d = 1
-	}
-	return signed(x.Neg, n, d)
+	return Int{big: &api.Int{Neg: neg, Mag: mag}}
 }
 
-func word(n api.Nat) uint64 {
-	switch len(n) {
-	case 0:
-		return 0
-	case 1:
-		return uint64(n[0])
-	}
-	return uint64(n[1])<<32 | uint64(n[0])
-}
-
-func signed(neg bool, n, d uint64) Num {
+func signed(neg bool, w uint64) Int {
 	if neg {
-		return Num{n: -int64(n), d: int64(d) - 1}
+		return Int{n: -int64(w)}
 	}
-	return Num{n: int64(n), d: int64(d) - 1}
-}
-
-func limbs(x uint64) api.Nat {
-	switch {
-	case x == 0:
-		return nil
-	case x>>32 == 0:
-		return api.Nat{uint32(x)}
-	}
-	return api.Nat{uint32(x), uint32(x >> 32)}
-}
-
-// Rat returns the canonical number.
-func (x Num) Rat() api.Rat {
-	if x.big != nil {
-		return *x.big
-	}
-	out := api.Rat{Neg: x.n < 0, Num: limbs(size(x.n))}
-	if x.d > 0 {
-		out.Den = limbs(uint64(x.d) + 1)
-	}
-	return out
+	return Int{n: int64(w)}
 }
 
 func size(n int64) uint64 {
@@ -78,11 +42,21 @@ func size(n int64) uint64 {
 	return uint64(n)
 }
 
+// Value returns the number as a number of layer 2.
+func (x Int) Value() api.Int {
+	if x.big != nil {
+		return *x.big
+	}
+	return api.Int{Neg: x.n < 0, Mag: natural.Of(size(x.n))}
+}
+
 // Sign returns the sign.
-func (x Num) Sign() int {
+func (x Int) Sign() int {
 	switch {
+	case x.big != nil && x.big.Neg:
+		return -1
 	case x.big != nil:
-		return rational.Sign(*x.big)
+		return 1
 	case x.n < 0:
 		return -1
 	case x.n > 0:
@@ -92,7 +66,112 @@ func (x Num) Sign() int {
 }
 
 // IsZero reports whether the number is 0.
-func (x Num) IsZero() bool { return x.n == 0 && x.big == nil }
+func (x Int) IsZero() bool { return x.n == 0 && x.big == nil }
+
+// IsOne reports whether the number is 1.
+func (x Int) IsOne() bool { return x.n == 1 && x.big == nil }
+
+// Neg returns the negated number.
+func (x Int) Neg() Int {
+	if x.big != nil {
+		return Int{big: &api.Int{Neg: !x.big.Neg, Mag: x.big.Mag}}
+	}
+	return Int{n: -x.n}
+}
+
+// Mul returns the product.
+func (x Int) Mul(y Int) Int { return Combine(x, y, Int{}, Int{}) }
+
+// Combine returns a times b plus c times d.
+func Combine(a, b, c, d Int) Int {
+	if a.big != nil || b.big != nil || c.big != nil || d.big != nil {
+		return combineBig(a, b, c, d)
+	}
+	neg, hi, lo := product(a.n, b.n)
+	otherNeg, otherHi, otherLo := product(c.n, d.n)
+	if hi|otherHi == 0 && lo>>62 == 0 && otherLo>>62 == 0 {
+		x, y := int64(lo), int64(otherLo)
+		if neg {
+			x = -x
+		}
+		if otherNeg {
+			y = -y
+		}
+		return Int{n: x + y}
+	}
+	if neg == otherNeg {
+		var carry uint64
+		lo, carry = bits.Add64(lo, otherLo, 0)
+		hi, _ = bits.Add64(hi, otherHi, carry)
+		return wide(neg, hi, lo)
+	}
+	if hi < otherHi || hi == otherHi && lo < otherLo {
+		neg, hi, lo, otherHi, otherLo = otherNeg, otherHi, otherLo, hi, lo
+	}
+	var borrow uint64
+	lo, borrow = bits.Sub64(lo, otherLo, 0)
+	hi, _ = bits.Sub64(hi, otherHi, borrow)
+	return wide(neg, hi, lo)
+}
+
+// product returns the sign and the two words of a product.
+func product(x, y int64) (neg bool, hi, lo uint64) {
+	hi, lo = bits.Mul64(size(x), size(y))
+	return (x < 0) != (y < 0), hi, lo
+}
+
+// wide returns a number of two words.
+func wide(neg bool, hi, lo uint64) Int {
+	if hi == 0 && lo>>63 == 0 {
+		return signed(neg, lo)
+	}
+	mag := api.Nat{uint32(lo), uint32(lo >> 32), uint32(hi), uint32(hi >> 32)}
+	for mag[len(mag)-1] == 0 {
+		mag = mag[:len(mag)-1]
+	}
+	return Int{big: &api.Int{Neg: neg, Mag: mag}}
+}
+
+func combineBig(a, b, c, d Int) Int {
+	var sum api.Int
+	switch {
+	case c.IsZero() || d.IsZero():
+		sum = times(a, b)
+	case a.IsZero() || b.IsZero():
+		sum = times(c, d)
+	default:
+		sum = integer.Add(times(a, b), times(c, d))
+	}
+	return Of(sum.Neg, sum.Mag)
+}
+
+func times(a, b Int) api.Int {
+	switch {
+	case a.IsOne():
+		return b.Value()
+	case b.IsOne():
+		return a.Value()
+	}
+	return integer.Mul(a.Value(), b.Value())
+}
+
+// Quo returns the quotient by a positive number that divides x.
+func (x Int) Quo(g Int) Int {
+	if x.big == nil && g.big == nil {
+		return Int{n: x.n / g.n}
+	}
+	v := x.Value()
+	q, _, _ := natural.DivMod(v.Mag, g.Value().Mag)
+	return Of(v.Neg, q)
+}
+
+// Gcd returns the greatest common divisor.
+func Gcd(x, y Int) Int {
+	if x.big == nil && y.big == nil {
+		return Int{n: int64(gcd(size(x.n), size(y.n)))}
+	}
+	return Of(false, natural.Gcd(x.Value().Mag, y.Value().Mag))
+}
 
 func gcd(x, y uint64) uint64 {
 	if x == 0 || y == 0 {
@@ -108,117 +187,4 @@ func gcd(x, y uint64) uint64 {
 		y -= x
 	}
 	return x << twos
-}
-
-// product returns x times y if it is below 2^62.
-func product(x, y uint64) (uint64, bool) {
-	hi, lo := bits.Mul64(x, y)
-	return lo, hi == 0 && lo>>62 == 0
-}
-
-// Neg returns the negated number.
-func (x Num) Neg() Num {
-	if x.big != nil {
-		return Of(rational.Neg(*x.big))
-	}
-	return Num{n: -x.n, d: x.d}
-}
-
-// Add returns the sum.
-func (x Num) Add(y Num) Num {
-	switch {
-	case x.IsZero():
-		return y
-	case y.IsZero():
-		return x
-	case x.big == nil && y.big == nil:
-		if z, ok := addSmall(x, y); ok {
-			return z
-		}
-	}
-	return Of(rational.Add(x.Rat(), y.Rat()))
-}
-
-func addSmall(x, y Num) (Num, bool) {
-	xd, yd := uint64(x.d)+1, uint64(y.d)+1
-	if xd == 1 && yd == 1 {
-		n := x.n + y.n
-		return Num{n: n}, size(n)>>62 == 0
-	}
-	g := gcd(xd, yd)
-	a, okA := product(size(x.n), yd/g)
-	b, okB := product(size(y.n), xd/g)
-	d, okD := product(xd, yd/g)
-	if !okA || !okB || !okD {
-		return Num{}, false
-	}
-	n := int64(a)
-	if x.n < 0 {
-		n = -n
-	}
-	if y.n < 0 {
-		n -= int64(b)
-	} else {
-		n += int64(b)
-	}
-	h := gcd(size(n), d)
-	if n == 0 {
-		return Num{}, true
-	}
-	s := size(n) / h
-	return signed(n < 0, s, d/h), s>>62 == 0
-}
-
-// Sub returns the difference.
-func (x Num) Sub(y Num) Num { return x.Add(y.Neg()) }
-
-// Mul returns the product.
-func (x Num) Mul(y Num) Num {
-	if x.IsZero() || y.IsZero() {
-		return Num{}
-	}
-	if x.big == nil && y.big == nil {
-		if z, ok := mulSmall(x, y); ok {
-			return z
-		}
-	}
-	return Of(rational.Mul(x.Rat(), y.Rat()))
-}
-
-func mulSmall(x, y Num) (Num, bool) {
-	a, b, xd, yd := size(x.n), size(y.n), uint64(x.d)+1, uint64(y.d)+1
-	if yd > 1 {
-		g := gcd(a, yd)
-		a, yd = a/g, yd/g
-	}
-	if xd > 1 {
-		g := gcd(b, xd)
-		b, xd = b/g, xd/g
-	}
-	n, okN := product(a, b)
-	d, okD := product(xd, yd)
-	return signed((x.n < 0) != (y.n < 0), n, d), okN && okD
-}
-
-// Inv returns 1 divided by a number that is not 0.
-func (x Num) Inv() Num {
-	if x.big != nil {
-		q, _ := rational.Div(rational.Of(1), *x.big)
-		return Of(q)
-	}
-	return signed(x.n < 0, uint64(x.d)+1, size(x.n))
-}
-
-// Cmp compares two numbers.
-func (x Num) Cmp(y Num) int {
-	if x.big == nil && y.big == nil && x.d == y.d {
-		switch {
-		case x.n < y.n:
-			return -1
-		case x.n > y.n:
-			return 1
-		}
-		return 0
-	}
-	return x.Sub(y).Sign()
 }

@@ -1,53 +1,69 @@
 package quick
 
 import (
+	"math"
+	"math/big"
 	"math/rand"
 	"testing"
 
 	"relucert/api"
-	"relucert/rational"
+	"relucert/integer"
 )
 
-func random(r *rand.Rand) api.Rat {
-	num, den := int(r.Uint64()>>r.Intn(64)), int(r.Uint64()>>(1+r.Intn(63)))
-	x, e := rational.Frac(num, den)
-	if e != api.OK {
-		return rational.Of(num)
+func toBig(x Int) *big.Int {
+	v := x.Value()
+	n := new(big.Int)
+	for i := len(v.Mag) - 1; i >= 0; i-- {
+		n.Lsh(n, 32)
+		n.Or(n, big.NewInt(int64(v.Mag[i])))
 	}
-	if r.Intn(5) == 0 {
-		return rational.Mul(x, rational.Of(int(r.Uint64())))
+	if v.Neg {
+		n.Neg(n)
 	}
-	return x
+	return n
 }
 
-func TestAgainstRational(t *testing.T) {
+func random(r *rand.Rand) Int {
+	switch r.Intn(8) {
+	case 0:
+		return Small(math.MaxInt64)
+	case 1:
+		return Small(-math.MaxInt64)
+	case 2:
+		return Small(r.Intn(3) - 1)
+	case 3:
+		mag := make(api.Nat, 2+r.Intn(4))
+		for i := range mag {
+			mag[i] = r.Uint32() | 1<<31
+		}
+		return Of(r.Intn(2) == 0, mag)
+	}
+	return Small(int(r.Uint64()>>1) >> r.Intn(63) * (1 - 2*r.Intn(2)))
+}
+
+func TestAgainstBig(t *testing.T) {
 	r := rand.New(rand.NewSource(1))
-	same := func(what string, got Num, want api.Rat) {
+	same := func(what string, got Int, want *big.Int) {
 		t.Helper()
-		if x := got.Rat(); !rational.Valid(x) || rational.Cmp(x, want) != 0 || got.Sign() != rational.Sign(want) || got.IsZero() != (rational.Sign(want) == 0) {
-			t.Fatal(what, x, want)
+		if toBig(got).Cmp(want) != 0 || got.Sign() != want.Sign() || got.IsZero() != (want.Sign() == 0) || !integer.Valid(got.Value()) || (got.big == nil) != want.IsInt64() && want.CmpAbs(new(big.Int).Lsh(big.NewInt(1), 63)) != 0 {
+			t.Fatal(what, got, want)
 		}
 	}
-	for i := range 50000 {
-		a, b := random(r), random(r)
-		if i%3 == 0 {
-			a, _ = rational.Frac(r.Intn(20)-10, 1+r.Intn(9))
-			b, _ = rational.Frac(r.Intn(20)-10, 1+r.Intn(9))
-		}
-		x, y := Of(a), Of(b)
-		same("of", x, a)
-		same("neg", x.Neg(), rational.Neg(a))
-		same("add", x.Add(y), rational.Add(a, b))
-		same("sub", x.Sub(y), rational.Sub(a, b))
-		same("mul", x.Mul(y), rational.Mul(a, b))
-		if x.Cmp(y) != rational.Cmp(a, b) {
-			t.Fatal("cmp", a, b)
-		}
-		if !x.IsZero() {
-			q, _ := rational.Div(rational.Of(1), a)
-			same("inv", x.Inv(), q)
+	for range 100000 {
+		a, b, c, d := random(r), random(r), random(r), random(r)
+		x, y := toBig(a), toBig(b)
+		sum := new(big.Int).Mul(x, y)
+		same("mul", a.Mul(b), sum)
+		sum = new(big.Int).Add(sum, new(big.Int).Mul(toBig(c), toBig(d)))
+		same("combine", Combine(a, b, c, d), sum)
+		same("neg", a.Neg(), new(big.Int).Neg(x))
+		g := new(big.Int).GCD(nil, nil, new(big.Int).Abs(x), new(big.Int).Abs(y))
+		same("gcd", Gcd(a, b), g)
+		if g.Sign() > 0 {
+			same("quo", a.Quo(Gcd(a, b)), new(big.Int).Quo(x, g))
 		}
 	}
-	same("one", One(), rational.Of(1))
-	same("zero", Num{}, api.Rat{})
+	if !Small(1).IsOne() || Small(-1).IsOne() || !Small(0).IsZero() {
+		t.Error("one")
+	}
 }

@@ -3,6 +3,7 @@ package tableau
 import (
 	"relucert/api"
 	"relucert/quick"
+	"relucert/rational"
 )
 
 // patience is the number of pivots without progress after which Bland's rule is used, which excludes cycles but is slower.
@@ -34,9 +35,9 @@ func (t *Tableau) Solve() (api.Solution, api.Errno) {
 // optimize uses the dual method where it can begin at once, and otherwise first makes the constants of all slacks nonnegative with the objective 0.
 func (t *Tableau) optimize() (outcome, api.Errno) {
 	if t.isDualFeasible() {
-		return t.dual(t.cost)
+		return t.dual(t.cost.coefs)
 	}
-	zero := make([]quick.Num, len(t.cost))
+	zero := make([]quick.Int, len(t.cost.coefs))
 	out, e := t.dual(zero)
 	if e != api.OK || out.status != api.LPOptimal {
 		return out, e
@@ -59,7 +60,7 @@ func (t *Tableau) eliminate() {
 // eliminator returns the line of a slack by which a free column is replaced, or -1. It prefers lines that keep the objective bounded, then lines without slacks, then short ones: for the rows of a part this is a backward substitution of the units.
 func (t *Tableau) eliminator(q int) int {
 	best, bestRank := -1, 0
-	sign := t.cost[q].Sign()
+	sign := t.cost.coefs[q].Sign()
 	for i, l := range t.lines {
 		c := l.coefs[q]
 		if isFree(l.basic) || c.IsZero() {
@@ -87,7 +88,7 @@ func (t *Tableau) eliminator(q int) int {
 
 func (t *Tableau) isDualFeasible() bool {
 	for j, number := range t.cols {
-		if s := t.cost[j].Sign(); s < 0 || s != 0 && isFree(number) {
+		if s := t.cost.coefs[j].Sign(); s < 0 || s != 0 && isFree(number) {
 			return false
 		}
 	}
@@ -95,7 +96,7 @@ func (t *Tableau) isDualFeasible() bool {
 }
 
 // dual is the dual simplex method for costs that are not negative.
-func (t *Tableau) dual(cost []quick.Num) (outcome, api.Errno) {
+func (t *Tableau) dual(cost []quick.Int) (outcome, api.Errno) {
 	for stalled := 0; ; stalled++ {
 		r := t.leaving(stalled >= patience)
 		if r < 0 {
@@ -118,9 +119,9 @@ func (t *Tableau) dual(cost []quick.Num) (outcome, api.Errno) {
 // leaving returns the line of a slack with a negative constant, or -1: the one with the least constant, or by Bland's rule the least slack.
 func (t *Tableau) leaving(bland bool) int {
 	best := -1
-	for i, l := range t.lines {
-		c := t.constant(l.coefs)
-		if isFree(l.basic) || c.Sign() >= 0 {
+	for i := range t.lines {
+		l := &t.lines[i]
+		if isFree(l.basic) || l.constant().Sign() >= 0 {
 			continue
 		}
 		switch {
@@ -128,32 +129,38 @@ func (t *Tableau) leaving(bland bool) int {
 			best = i
 		case bland && l.basic < t.lines[best].basic:
 			best = i
-		case !bland && c.Cmp(t.constant(t.lines[best].coefs)) < 0:
+		case !bland && isLess(l.constant(), l.den, t.lines[best].constant(), t.lines[best].den):
 			best = i
 		}
 	}
 	return best
 }
 
+// isLess reports whether a/b is less than c/d, for positive denominators.
+func isLess(a, b, c, d quick.Int) bool { return compare(a, b, c, d) < 0 }
+
+// compare compares a/b and c/d, for positive denominators.
+func compare(a, b, c, d quick.Int) int {
+	if sa, sc := a.Sign(), c.Sign(); sa != sc || sa == 0 {
+		return sa - sc
+	}
+	return quick.Combine(a, d, c.Neg(), b).Sign()
+}
+
 // dualEntering returns the column of a slack with the least ratio of its cost, and the least slack among equal ones, or -1.
-func (t *Tableau) dualEntering(r int, cost []quick.Num) int {
+func (t *Tableau) dualEntering(r int, cost []quick.Int) int {
 	best := -1
-	var least quick.Num
 	row := t.lines[r].coefs
 	for j, number := range t.cols {
 		if isFree(number) || row[j].Sign() <= 0 {
 			continue
 		}
-		ratio := cost[j]
-		if !ratio.IsZero() {
-			ratio = ratio.Mul(row[j].Inv())
-		}
 		c := -1
 		if best >= 0 {
-			c = ratio.Cmp(least)
+			c = compare(cost[j], row[j], cost[best], row[best])
 		}
 		if c < 0 || c == 0 && number < t.cols[best] {
-			best, least = j, ratio
+			best = j
 		}
 	}
 	return best
@@ -176,7 +183,7 @@ func (t *Tableau) primal() (outcome, api.Errno) {
 		if t.pivots >= api.MaxPivots {
 			return outcome{}, api.ErrLimit
 		}
-		if !t.constant(t.lines[r].coefs).IsZero() {
+		if !t.lines[r].constant().IsZero() {
 			stalled = -1
 		}
 		t.pivot(r, q)
@@ -187,7 +194,7 @@ func (t *Tableau) primal() (outcome, api.Errno) {
 func (t *Tableau) entering(bland bool) int {
 	best := -1
 	for j, number := range t.cols {
-		s := t.cost[j].Sign()
+		s := t.cost.coefs[j].Sign()
 		switch {
 		case isFree(number) && s != 0:
 			return j
@@ -196,7 +203,7 @@ func (t *Tableau) entering(bland bool) int {
 			best = j
 		case bland && number < t.cols[best]:
 			best = j
-		case !bland && t.cost[j].Cmp(t.cost[best]) < 0:
+		case !bland && quick.Combine(t.cost.coefs[j], quick.Small(1), t.cost.coefs[best], quick.Small(-1)).Sign() < 0:
 			best = j
 		}
 	}
@@ -206,21 +213,18 @@ func (t *Tableau) entering(bland bool) int {
 // limiting returns the line of the slack that limits the increase of a column first, and the least slack among equal ones, or -1.
 func (t *Tableau) limiting(q int) int {
 	best := -1
-	var least quick.Num
-	for i, l := range t.lines {
+	for i := range t.lines {
+		l := &t.lines[i]
 		if isFree(l.basic) || l.coefs[q].Sign() >= 0 {
 			continue
 		}
-		ratio := t.constant(l.coefs)
-		if !ratio.IsZero() {
-			ratio = ratio.Mul(l.coefs[q].Inv().Neg())
-		}
 		c := -1
 		if best >= 0 {
-			c = ratio.Cmp(least)
+			b := &t.lines[best]
+			c = compare(l.constant(), l.coefs[q].Neg(), b.constant(), b.coefs[q].Neg())
 		}
 		if c < 0 || c == 0 && l.basic < t.lines[best].basic {
-			best, least = i, ratio
+			best = i
 		}
 	}
 	return best
@@ -240,9 +244,9 @@ func (t *Tableau) basis() []int {
 // point returns the values of the variables where all columns are 0.
 func (t *Tableau) point() []api.Rat {
 	out := make([]api.Rat, t.vars)
-	for _, l := range t.lines {
-		if isFree(l.basic) {
-			out[free(l.basic)] = t.constant(l.coefs).Rat()
+	for i := range t.lines {
+		if l := &t.lines[i]; isFree(l.basic) {
+			out[free(l.basic)] = l.number(l.constant())
 		}
 	}
 	return out
@@ -252,20 +256,20 @@ func (t *Tableau) optimum() api.Solution {
 	dual := make([]api.Rat, t.slacks)
 	for j, number := range t.cols {
 		if !isFree(number) {
-			dual[number] = t.cost[j].Rat()
+			dual[number] = t.cost.number(t.cost.coefs[j])
 		}
 	}
-	return api.Solution{Status: api.LPOptimal, Value: t.constant(t.cost).Rat(), Point: t.point(), Dual: dual, Basis: t.basis(), Pivots: t.pivots}
+	return api.Solution{Status: api.LPOptimal, Value: t.cost.number(t.cost.constant()), Point: t.point(), Dual: dual, Basis: t.basis(), Pivots: t.pivots}
 }
 
 // refutation: the slack of the line is a negative constant minus nonnegative multiples of other slacks.
 func (t *Tableau) refutation(r int) api.Solution {
 	dual := make([]api.Rat, t.slacks)
-	l := t.lines[r]
-	dual[l.basic] = quick.One().Rat()
+	l := &t.lines[r]
+	dual[l.basic] = rational.Of(1)
 	for j, number := range t.cols {
 		if !isFree(number) {
-			dual[number] = l.coefs[j].Neg().Rat()
+			dual[number] = l.number(l.coefs[j].Neg())
 		}
 	}
 	return api.Solution{Status: api.LPInfeasible, Dual: dual, Basis: t.basis(), Pivots: t.pivots}
@@ -273,17 +277,19 @@ func (t *Tableau) refutation(r int) api.Solution {
 
 // direction returns how the variables change with the column.
 func (t *Tableau) direction(q int) api.Solution {
-	step := quick.One()
-	if t.cost[q].Sign() > 0 {
-		step = step.Neg()
-	}
+	falling := t.cost.coefs[q].Sign() > 0
 	ray := make([]api.Rat, t.vars)
 	if isFree(t.cols[q]) {
-		ray[free(t.cols[q])] = step.Rat()
+		ray[free(t.cols[q])] = rational.Of(1)
 	}
-	for _, l := range t.lines {
-		if isFree(l.basic) {
-			ray[free(l.basic)] = step.Mul(l.coefs[q]).Rat()
+	for i := range t.lines {
+		if l := &t.lines[i]; isFree(l.basic) {
+			ray[free(l.basic)] = l.number(l.coefs[q])
+		}
+	}
+	if falling {
+		for v, x := range ray {
+			ray[v] = rational.Neg(x)
 		}
 	}
 	return api.Solution{Status: api.LPUnbounded, Point: t.point(), Ray: ray, Basis: t.basis(), Pivots: t.pivots}

@@ -2,8 +2,12 @@
 package tableau
 
 import (
+	"slices"
+
 	"relucert/api"
+	"relucert/linear"
 	"relucert/quick"
+	"relucert/rational"
 )
 
 // Tableau is a dictionary of a linear program. Row i of the program has a slack, its value. Each column stands for a nonbasic variable, which has the value 0; each line for a basic one, which is a constant plus multiples of the columns. Variables of the program are free; a free variable that becomes basic remains so.
@@ -14,14 +18,15 @@ type Tableau struct {
 	slacks int
 	cols   []int // variables of the columns
 	lines  []line
-	cost   []quick.Num // the objective: a multiple of each column, and a constant
+	cost   line // the objective
 	pivots int
 }
 
-// line is a basic variable with a multiple of each column, and a constant behind them.
+// line is a basic variable times a positive integer: an integer multiple of each column, and a constant behind them. These integers have no common divisor.
 type line struct {
 	basic int
-	coefs []quick.Num
+	den   quick.Int
+	coefs []quick.Int
 }
 
 func free(v int) int { return -1 - v }
@@ -30,39 +35,85 @@ func isFree(number int) bool { return number < 0 }
 
 // New returns the tableau of a valid program.
 func New(p api.Program) *Tableau {
-	t := &Tableau{vars: p.Vars, cols: make([]int, p.Vars), cost: dense(p.Objective, p.Vars)}
+	t := &Tableau{vars: p.Vars, cols: make([]int, p.Vars), cost: newLine(0, dense(p.Objective, p.Vars))}
 	for v := range t.cols {
 		t.cols[v] = free(v)
 	}
 	for _, f := range p.Rows {
-		t.lines = append(t.lines, line{t.slacks, dense(f, p.Vars)})
+		t.lines = append(t.lines, newLine(t.slacks, dense(f, p.Vars)))
 		t.slacks++
 	}
 	return t
 }
 
 // dense returns the coefficients of all variables of a form, and its constant.
-func dense(f api.Affine, vars int) []quick.Num {
-	out := make([]quick.Num, vars+1)
+func dense(f api.Affine, vars int) []api.Rat {
+	out := make([]api.Rat, vars+1)
 	for _, x := range f.Terms {
-		out[x.Var] = quick.Of(x.Coef)
+		out[x.Var] = x.Coef
 	}
-	out[vars] = quick.Of(f.Const)
+	out[vars] = f.Const
 	return out
+}
+
+// newLine returns the line with some coefficients.
+func newLine(basic int, coefs []api.Rat) line {
+	l := line{basic, quick.Small(1), make([]quick.Int, len(coefs))}
+	for _, c := range coefs {
+		if len(c.Den) > 0 {
+			d := quick.Of(false, c.Den)
+			l.den = l.den.Mul(d.Quo(quick.Gcd(l.den, d)))
+		}
+	}
+	for k, c := range coefs {
+		if len(c.Num) > 0 {
+			l.coefs[k] = quick.Of(c.Neg, c.Num).Mul(l.den.Quo(quick.Of(false, rational.Den(c))))
+		}
+	}
+	l.reduce()
+	return l
+}
+
+// reduce removes the common divisor. It is found after a few numbers, in most cases.
+func (l *line) reduce() {
+	g := l.den
+	for _, c := range l.coefs {
+		if g.IsOne() {
+			return
+		}
+		if !c.IsZero() {
+			g = quick.Gcd(g, c)
+		}
+	}
+	if g.IsOne() {
+		return
+	}
+	l.den = l.den.Quo(g)
+	for k, c := range l.coefs {
+		if !c.IsZero() {
+			l.coefs[k] = c.Quo(g)
+		}
+	}
+}
+
+// constant returns the constant, times the denominator.
+func (l *line) constant() quick.Int { return l.coefs[len(l.coefs)-1] }
+
+// number returns a number of the line as a rational number.
+func (l *line) number(x quick.Int) api.Rat {
+	q, _ := rational.Make(x.Value(), l.den.Value())
+	return q
 }
 
 // Clone returns an independent copy.
 func (t *Tableau) Clone() *Tableau {
 	c := *t
-	c.cols = make([]int, len(t.cols))
-	copy(c.cols, t.cols)
-	c.cost = make([]quick.Num, len(t.cost))
-	copy(c.cost, t.cost)
+	c.cols = slices.Clone(t.cols)
+	c.cost.coefs = slices.Clone(t.cost.coefs)
 	c.lines = make([]line, len(t.lines))
-	for i, l := range t.lines {
-		coefs := make([]quick.Num, len(l.coefs))
-		copy(coefs, l.coefs)
-		c.lines[i] = line{l.basic, coefs}
+	copy(c.lines, t.lines)
+	for i := range c.lines {
+		c.lines[i].coefs = slices.Clone(t.lines[i].coefs)
 	}
 	return &c
 }
@@ -70,67 +121,76 @@ func (t *Tableau) Clone() *Tableau {
 // Add appends a row to the program.
 func (t *Tableau) Add(f api.Affine) {
 	n := len(t.cols)
-	coefs := make([]quick.Num, n+1)
-	coefs[n] = quick.Of(f.Const)
-	want := map[int]quick.Num{}
-	for _, x := range f.Terms {
-		want[free(x.Var)] = quick.Of(x.Coef)
-	}
+	sum := make([]api.Rat, n+1)
+	sum[n] = f.Const
 	for j, number := range t.cols {
-		if c, ok := want[number]; ok {
-			coefs[j] = coefs[j].Add(c)
+		if isFree(number) {
+			sum[j] = linear.Coef(f, free(number))
 		}
 	}
-	for _, l := range t.lines {
-		if c, ok := want[l.basic]; ok {
-			addMultiple(coefs, l.coefs, c)
+	for i := range t.lines {
+		l := &t.lines[i]
+		if !isFree(l.basic) {
+			continue
+		}
+		c := linear.Coef(f, free(l.basic))
+		if len(c.Num) == 0 {
+			continue
+		}
+		for k, x := range l.coefs {
+			if !x.IsZero() {
+				sum[k] = rational.Add(sum[k], rational.Mul(c, l.number(x)))
+			}
 		}
 	}
-	t.lines = append(t.lines, line{t.slacks, coefs})
+	t.lines = append(t.lines, newLine(t.slacks, sum))
 	t.slacks++
-}
-
-// addMultiple adds c times the numbers of b to those of a.
-func addMultiple(a, b []quick.Num, c quick.Num) {
-	for k, x := range b {
-		if !x.IsZero() {
-			a[k] = a[k].Add(c.Mul(x))
-		}
-	}
 }
 
 // pivot exchanges the basic variable of line r and the nonbasic one of column q.
 func (t *Tableau) pivot(r, q int) {
 	t.pivots++
-	row := t.lines[r].coefs
-	inverse := row[q].Inv()
-	minus := inverse.Neg()
-	solved := make([]quick.Num, len(row))
-	for k, x := range row {
-		if !x.IsZero() {
-			solved[k] = x.Mul(minus)
+	row := t.lines[r]
+	solved := line{t.cols[q], row.coefs[q], make([]quick.Int, len(row.coefs))}
+	negative := solved.den.Sign() < 0
+	for k, x := range row.coefs {
+		if negative || x.IsZero() {
+			solved.coefs[k] = x
+		} else {
+			solved.coefs[k] = x.Neg()
 		}
 	}
-	solved[q] = inverse
+	solved.coefs[q] = row.den
+	if negative {
+		solved.den, solved.coefs[q] = solved.den.Neg(), row.den.Neg()
+	}
 	for i := range t.lines {
 		if i != r {
-			replaceColumn(t.lines[i].coefs, q, solved)
+			t.lines[i].substitute(q, &solved)
 		}
 	}
-	replaceColumn(t.cost, q, solved)
-	t.lines[r].coefs = solved
-	t.lines[r].basic, t.cols[q] = t.cols[q], t.lines[r].basic
+	t.cost.substitute(q, &solved)
+	t.lines[r] = solved
+	t.cols[q] = row.basic
 }
 
-// replaceColumn substitutes the variable of column q by its new line.
-func replaceColumn(coefs []quick.Num, q int, solved []quick.Num) {
-	c := coefs[q]
+// substitute replaces the variable of column q by its line.
+func (l *line) substitute(q int, solved *line) {
+	c := l.coefs[q]
 	if c.IsZero() {
 		return
 	}
-	coefs[q] = quick.Num{}
-	addMultiple(coefs, solved, c)
+	g := quick.Gcd(c, solved.den)
+	factor, share := solved.den.Quo(g), c.Quo(g)
+	l.coefs[q] = quick.Int{}
+	l.den = l.den.Mul(factor)
+	for k, s := range solved.coefs {
+		switch x := l.coefs[k]; {
+		case !s.IsZero():
+			l.coefs[k] = quick.Combine(x, factor, share, s)
+		case !x.IsZero() && !factor.IsOne():
+			l.coefs[k] = x.Mul(factor)
+		}
+	}
+	l.reduce()
 }
-
-// constant returns the constant of a list of coefficients.
-func (t *Tableau) constant(coefs []quick.Num) quick.Num { return coefs[len(t.cols)] }
