@@ -32,6 +32,7 @@ func TestMalformed(t *testing.T) {
 		{"\x06\x02aa\x00\x00", 10, api.ErrForm}, {"", 10, api.ErrForm}, {"\x03\x03ab", 9, api.ErrForm}, {"\x03\x03abcd", 9, api.ErrForm}, {"\x00\x00", 9, api.ErrForm},
 		{"\x06\x01a\x01\x00", 5, api.ErrLimit}, {"", -1, api.ErrLimit}, {"\x80\x00", 9, api.ErrForm}, {"\x00", -1, api.ErrLimit}, {"\x09", 5, api.ErrLimit},
 		{"\x06\x01a\x01\x01", 10, api.ErrForm}, {"\x06\x01a\x02\x00", 10, api.ErrForm}, {"\x03\x04abcd", 9, api.ErrForm}, {"\x06\x00\x01\x00", 9, api.ErrForm}, {"\x08\x04abcd\x00", 9, api.ErrForm},
+		{"\x80\x80\x80\x80\x80\x80\x80\x01\x01a\x80\x80\x80\x80\x80\x40\x00", 1 << 60, api.ErrForm},
 		{"\xff\xff\xff\xff\xff\xff\xff\xff\xff\x01", 1<<63 - 1, api.ErrLimit},
 	} {
 		if b, e := Unpack([]byte(c.b), c.limit); e != c.e || len(b) != 0 {

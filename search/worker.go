@@ -13,13 +13,13 @@ import (
 	"relucert/phase"
 	"relucert/rational"
 	"relucert/region"
+	"relucert/rows"
 	"relucert/split"
-	"relucert/view"
 )
 
 // job is a part that waits or is in work: the view of the part above it with the decision that leads to it, or its own view.
 type job struct {
-	view     *view.View
+	view     *rows.View
 	decision api.Decision
 	known    *known
 	record   *record
@@ -159,7 +159,7 @@ func (w *worker) bound() {
 }
 
 // clash returns a derivation that refutes a part in which a unit is decided against its bounds.
-func clash(v *view.View) ([]api.Mult, bool) {
+func clash(v *rows.View) ([]api.Mult, bool) {
 	mults := func(rows ...api.Row) []api.Mult {
 		var out []api.Mult
 		for _, r := range rows {

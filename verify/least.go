@@ -14,7 +14,6 @@ import (
 	"relucert/rows"
 	"relucert/split"
 	"relucert/symbolic"
-	"relucert/view"
 )
 
 // minimum is a branch and bound for the least value of a query: the parts that are left, and the best input so far.
@@ -22,10 +21,10 @@ type minimum struct {
 	query   api.Query
 	options api.Options
 	domain  domain.Domain
-	parts   []*view.View
+	parts   []*rows.View
 	input   []api.Rat
 	value   api.Rat
-	program func(v *view.View, f api.Affine) (api.Part, api.Errno)
+	program func(v *rows.View, f api.Affine) (api.Part, api.Errno)
 }
 
 // Least returns the least value of a query, and an input at which the goal has it.
@@ -38,7 +37,7 @@ func Least(q api.Query, o api.Options) (api.Rat, []api.Rat, api.Errno) {
 	if o.Cuts {
 		m.program = cuts.LoopIn
 	}
-	m.parts = []*view.View{view.Of(api.Scope{Query: q})}
+	m.parts = []*rows.View{rows.NewView(api.Scope{Query: q})}
 	for examined := 0; len(m.parts) > 0; examined++ {
 		if examined == o.Nodes {
 			return api.Rat{}, nil, api.ErrLimit
@@ -62,7 +61,7 @@ func (m *minimum) isWorse(bound api.Rat) bool {
 }
 
 // examine drops a part or divides it.
-func (m *minimum) examine(v *view.View) api.Errno {
+func (m *minimum) examine(v *rows.View) api.Errno {
 	domain.RunIn(m.domain, v, m.options.Bits)
 	if b, _, ok := domain.LowerIn(m.domain, v, m.query.Goal); ok && m.isWorse(b) {
 		return api.OK
@@ -92,7 +91,7 @@ func (m *minimum) try(x []api.Rat) {
 }
 
 // divide splits a part by a unit: each unit is decided once on a path, so that there are fewer than 2^(n+1) parts.
-func (m *minimum) divide(v *view.View, point []api.Rat) api.Errno {
+func (m *minimum) divide(v *rows.View, point []api.Rat) api.Errno {
 	rule := m.options.Rule
 	if rule == split.Bisect {
 		rule = split.First
@@ -101,7 +100,7 @@ func (m *minimum) divide(v *view.View, point []api.Rat) api.Errno {
 	if e != api.OK {
 		return api.ErrLimit
 	}
-	kids := [2]*view.View{v.With(phase.Opposite(d)), v.With(d)}
+	kids := [2]*rows.View{v.With(phase.Opposite(d)), v.With(d)}
 	if len(point) > 0 {
 		if pre, _ := linear.Eval(v.Pre(d.Index), point); pre.Neg {
 			kids[0], kids[1] = kids[1], kids[0]

@@ -1,4 +1,4 @@
-package tableau
+package simplex
 
 import (
 	"relucert/api"
@@ -97,23 +97,29 @@ func (t *Tableau) isDualFeasible() bool {
 
 // dual is the dual simplex method for costs that are not negative.
 func (t *Tableau) dual(cost []quick.Int) (outcome, api.Errno) {
-	for stalled := 0; ; stalled++ {
+	out := outcome{status: api.LPOptimal}
+	stalled := 0
+pivots:
+	for {
 		r := t.leaving(stalled >= patience)
 		if r < 0 {
-			return outcome{api.LPOptimal, 0}, api.OK
+			break pivots
 		}
 		q := t.dualEntering(r, cost)
 		if q < 0 {
-			return outcome{api.LPInfeasible, r}, api.OK
+			out = outcome{api.LPInfeasible, r}
+			break pivots
 		}
 		if t.pivots >= api.MaxPivots {
 			return outcome{}, api.ErrLimit
 		}
+		stalled++
 		if !cost[q].IsZero() {
-			stalled = -1
+			stalled = 0
 		}
 		t.pivot(r, q)
 	}
+	return out, api.OK
 }
 
 // leaving returns the line of a slack with a negative constant, or -1: the one with the least constant, or by Bland's rule the least slack.
@@ -168,26 +174,32 @@ func (t *Tableau) dualEntering(r int, cost []quick.Int) int {
 
 // primal is the primal simplex method; the constants of all slacks are nonnegative.
 func (t *Tableau) primal() (outcome, api.Errno) {
-	for stalled := 0; ; stalled++ {
+	out := outcome{status: api.LPOptimal}
+	stalled := 0
+pivots:
+	for {
 		q := t.entering(stalled >= patience)
 		if q < 0 {
-			return outcome{api.LPOptimal, 0}, api.OK
+			break pivots
 		}
 		r := -1
 		if !isFree(t.cols[q]) {
 			r = t.limiting(q)
 		}
 		if r < 0 {
-			return outcome{api.LPUnbounded, q}, api.OK
+			out = outcome{api.LPUnbounded, q}
+			break pivots
 		}
 		if t.pivots >= api.MaxPivots {
 			return outcome{}, api.ErrLimit
 		}
+		stalled++
 		if !t.lines[r].constant().IsZero() {
-			stalled = -1
+			stalled = 0
 		}
 		t.pivot(r, q)
 	}
+	return out, api.OK
 }
 
 // entering returns a column whose increase lowers the objective, or -1. A free column that remains occurs in no row of a slack, so that it may change in either direction.

@@ -1,5 +1,4 @@
-// Package view prepares a scope for many questions about its rows: what layer 21 defines is found here without examining the whole scope again and again.
-package view
+package rows
 
 import (
 	"slices"
@@ -11,7 +10,7 @@ import (
 	"relucert/region"
 )
 
-// Valid reports whether a query is valid (layer 21).
+// Valid reports whether a query is valid.
 func Valid(q api.Query) bool {
 	return graph.Valid(q.Graph) && region.Valid(q.Region, q.Graph.Inputs) && linear.Valid(q.Goal, q.Graph.Inputs+len(q.Graph.Units))
 }
@@ -29,7 +28,7 @@ type unit struct {
 	l, u         api.Rat
 }
 
-// View is a scope with what follows from its path and its lemmas. Views of scopes whose query is not valid have no rows.
+// View is a scope with what follows from its path and its lemmas, for callers with many questions about one scope. Views of scopes whose query is not valid have no rows.
 type View struct {
 	query  api.Query
 	valid  bool
@@ -39,8 +38,8 @@ type View struct {
 	lo, hi []Bound
 }
 
-// Of returns the view of a scope.
-func Of(s api.Scope) *View {
+// NewView returns the view of a scope.
+func NewView(s api.Scope) *View {
 	v := &View{query: s.Query, valid: Valid(s.Query)}
 	if !v.valid {
 		return v

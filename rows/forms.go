@@ -1,4 +1,4 @@
-package view
+package rows
 
 import (
 	"relucert/api"
@@ -177,7 +177,7 @@ func rowTri(v *View, r api.Row) (api.Affine, bool) {
 	return linear.Sub(above, linear.Scale(v.variable(r.Index), rational.Sub(u, l))), true
 }
 
-// All returns the rows of layer 21's All.
+// All returns the rows of the scope.
 func (v *View) All() []api.Row {
 	if !v.valid {
 		return nil

@@ -1,5 +1,4 @@
-// Package tableau implements the exact simplex method on a dictionary that can grow. Packages simplex and warm are two ways to use it.
-package tableau
+package simplex
 
 import (
 	"slices"
@@ -10,7 +9,7 @@ import (
 	"relucert/rational"
 )
 
-// Tableau is a dictionary of a linear program. Row i of the program has a slack, its value. Each column stands for a nonbasic variable, which has the value 0; each line for a basic one, which is a constant plus multiples of the columns. Variables of the program are free; a free variable that becomes basic remains so.
+// Tableau is a dictionary of a linear program to which rows can be added (layer 30). Row i of the program has a slack, its value. Each column stands for a nonbasic variable, which has the value 0; each line for a basic one, which is a constant plus multiples of the columns. Variables of the program are free; a free variable that becomes basic remains so.
 //
 // Variables are numbered: slack i is i, variable v of the program is -1-v.
 type Tableau struct {
@@ -33,8 +32,8 @@ func free(v int) int { return -1 - v }
 
 func isFree(number int) bool { return number < 0 }
 
-// New returns the tableau of a valid program.
-func New(p api.Program) *Tableau {
+// NewTableau returns the tableau of a valid program.
+func NewTableau(p api.Program) *Tableau {
 	t := &Tableau{vars: p.Vars, cols: make([]int, p.Vars), cost: newLine(0, dense(p.Objective, p.Vars))}
 	for v := range t.cols {
 		t.cols[v] = free(v)
