@@ -77,8 +77,7 @@ func (p *place) derived(m api.Lemma) bool {
 
 // sum returns the sum of a derivation, if it is canonical and its rows are available.
 func (p *place) sum(l []api.Mult) (api.Affine, bool) {
-	var terms []api.Term
-	var c api.Rat
+	weights, forms := make([]api.Rat, len(l)), make([]api.Affine, len(l))
 	for i, m := range l {
 		if !rational.Valid(m.Coef) || rational.Sign(m.Coef) <= 0 || i > 0 && !precedes(l[i-1].Row, m.Row) {
 			return api.Affine{}, false
@@ -87,12 +86,9 @@ func (p *place) sum(l []api.Mult) (api.Affine, bool) {
 		if !ok {
 			return api.Affine{}, false
 		}
-		f = linear.Scale(f, m.Coef)
-		terms = append(terms, f.Terms...)
-		c = rational.Add(c, f.Const)
+		weights[i], forms[i] = m.Coef, f
 	}
-	out, _ := linear.Make(terms, c)
-	return out, true
+	return linear.Combine(api.Rat{}, weights, forms), true
 }
 
 func precedes(a, b api.Row) bool {

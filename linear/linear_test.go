@@ -149,6 +149,20 @@ func TestValues(t *testing.T) {
 	}
 }
 
+func TestCombine(t *testing.T) {
+	forms := []api.Affine{form(t, "x0 - x2 + 1"), form(t, "7*x5"), form(t, "x1 + x2")}
+	weights := []api.Rat{rational.Of(2), {}, frac(-1, 2), rational.Of(9)}
+	if f := Combine(frac(1, 3), weights, forms); Text(f) != "2*x0 - 1/2*x1 - 5/2*x2 + 7/3" {
+		t.Error(Text(f))
+	}
+	if f := Replace(form(t, "3*x0 + 3*x2 - 4"), forms); Text(f) != "3*x0 + 3*x1 - 1" {
+		t.Error(Text(f))
+	}
+	if f := Combine(api.Rat{}, nil, nil); Text(f) != "0" {
+		t.Error(Text(f))
+	}
+}
+
 // corner is the least or greatest value at a corner of the box.
 func corner(f api.Affine, box []api.Interval, greatest bool) api.Rat {
 	var best api.Rat

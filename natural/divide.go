@@ -99,21 +99,22 @@ func Gcd(a, b api.Nat) api.Nat {
 	if len(a) <= 2 {
 		x, _ := Uint(a)
 		y, _ := Uint(b)
-		return Of(gcdWord(x, y))
+		return Of(GcdWord(x, y))
 	}
 	a, b = slices.Clone(a), slices.Clone(b)
 	for len(b) > 0 {
 		if len(a) <= 2 {
 			x, _ := Uint(a)
 			y, _ := Uint(b)
-			return Of(gcdWord(x, y))
+			return Of(GcdWord(x, y))
 		}
 		a, b = gcdRound(a, b)
 	}
 	return a
 }
 
-func gcdWord(x, y uint64) uint64 {
+// GcdWord returns the greatest common divisor of two words.
+func GcdWord(x, y uint64) uint64 {
 	if x == 0 || y == 0 {
 		return x | y
 	}

@@ -168,23 +168,7 @@ func (x Int) Quo(g Int) Int {
 // Gcd returns the greatest common divisor.
 func Gcd(x, y Int) Int {
 	if x.big == nil && y.big == nil {
-		return Int{n: int64(gcd(size(x.n), size(y.n)))}
+		return Int{n: int64(natural.GcdWord(size(x.n), size(y.n)))}
 	}
 	return Of(false, natural.Gcd(x.Value().Mag, y.Value().Mag))
-}
-
-func gcd(x, y uint64) uint64 {
-	if x == 0 || y == 0 {
-		return x | y
-	}
-	twos := bits.TrailingZeros64(x | y)
-	x >>= bits.TrailingZeros64(x)
-	for y != 0 {
-		y >>= bits.TrailingZeros64(y)
-		if x > y {
-			x, y = y, x
-		}
-		y -= x
-	}
-	return x << twos
 }

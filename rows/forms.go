@@ -230,18 +230,13 @@ func (v *View) unitRows(j int) []api.Row {
 
 // Sum returns the sum of multiples of rows, or false if one of the rows is not available.
 func (v *View) Sum(l []api.Mult) (api.Affine, bool) {
-	var terms []api.Term
-	var c api.Rat
-	for _, m := range l {
+	weights, forms := make([]api.Rat, len(l)), make([]api.Affine, len(l))
+	for i, m := range l {
 		f, ok := v.Form(m.Row)
 		if !ok {
 			return api.Affine{}, false
 		}
-		for _, t := range f.Terms {
-			terms = append(terms, api.Term{Var: t.Var, Coef: rational.Mul(m.Coef, t.Coef)})
-		}
-		c = rational.Add(c, rational.Mul(m.Coef, f.Const))
+		weights[i], forms[i] = m.Coef, f
 	}
-	out, _ := linear.Make(terms, c)
-	return out, true
+	return linear.Combine(api.Rat{}, weights, forms), true
 }
