@@ -119,6 +119,26 @@ func TestErrors(t *testing.T) {
 	}
 }
 
+// counting embeds another domain and counts the calls of Lower.
+type counting struct {
+	inputs
+	calls *int
+}
+
+func (d counting) Lower(s api.Scope, f api.Affine) (api.Rat, []api.Mult, bool) {
+	*d.calls++
+	return d.inputs.Lower(s, f)
+}
+
+func TestEmbedded(t *testing.T) {
+	calls := 0
+	d := counting{inputs{"inputs", 0}, &calls}
+	s := sample("x0", api.Rat{}, rational.Of(1))
+	if got, e := Run(Both(d, nothing{}), s, 0); e != api.OK || calls != 2 || len(got.Lemmas) != 2 {
+		t.Error(calls, e)
+	}
+}
+
 func TestBoth(t *testing.T) {
 	s := sample("x0", api.Rat{}, rational.Of(1))
 	good, weak, none := inputs{"good", 0}, inputs{"weak", 1}, nothing{}

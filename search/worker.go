@@ -145,13 +145,13 @@ func (w *worker) closeBy(r api.Reason) {
 func (w *worker) bound() {
 	v, s := w.job.view, w.state
 	above := len(v.Lemmas())
-	domain.RunIn(s.domain, v, s.options.Bits)
+	domain.RunIn(s.bound, v, s.options.Bits)
 	w.job.record.lemmas = v.Lemmas()[above:]
 	if proof, ok := clash(v); ok {
 		w.leaf(true, proof)
 		return
 	}
-	if b, proof, ok := domain.LowerIn(s.domain, v, s.query.Goal); ok && rational.Sign(b) >= 0 {
+	if b, proof, ok := s.bound(v, s.query.Goal); ok && rational.Sign(b) >= 0 {
 		w.leaf(false, proof)
 		return
 	}

@@ -32,13 +32,19 @@ func (t *Tableau) Solve() (api.Solution, api.Errno) {
 	return t.optimum(), api.OK
 }
 
-// optimize uses the dual method where it can begin at once, and otherwise first makes the constants of all slacks nonnegative with the objective 0.
+// optimize uses the dual method where it can begin at once, and otherwise first makes the constants of all slacks nonnegative with an objective that rises with all of them.
 func (t *Tableau) optimize() (outcome, api.Errno) {
 	if t.isDualFeasible() {
 		return t.dual(t.cost.coefs)
 	}
-	zero := make([]quick.Int, len(t.cost.coefs))
-	out, e := t.dual(zero)
+	t.rising = line{den: quick.Small(1), coefs: make([]quick.Int, len(t.cost.coefs))}
+	for j, number := range t.cols {
+		if !isFree(number) {
+			t.rising.coefs[j] = quick.Small(1)
+		}
+	}
+	out, e := t.dual(t.rising.coefs)
+	t.rising = line{}
 	if e != api.OK || out.status != api.LPOptimal {
 		return out, e
 	}

@@ -18,6 +18,7 @@ type Tableau struct {
 	cols   []int // variables of the columns
 	lines  []line
 	cost   line // the objective
+	rising line // another objective, while the first feasible point is looked for
 	pivots int
 }
 
@@ -169,6 +170,9 @@ func (t *Tableau) pivot(r, q int) {
 		}
 	}
 	t.cost.substitute(q, &solved)
+	if t.rising.coefs != nil {
+		t.rising.substitute(q, &solved)
+	}
 	t.lines[r] = solved
 	t.cols[q] = row.basic
 }

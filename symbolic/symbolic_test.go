@@ -91,7 +91,9 @@ func TestGet(t *testing.T) {
 		}
 	}
 	for _, n := range []int{-1, 3} {
-		if d, ok := Get(n); ok || d != nil {
+		d, ok := Get(n)
+		in, also := In(n)
+		if ok || d != nil || also || in != nil {
 			t.Error(n)
 		}
 	}
@@ -135,6 +137,11 @@ func TestBounds(t *testing.T) {
 				t.Fatal("derivation", n, ok, e)
 			}
 			bounds = append(bounds, b)
+		}
+		in, _ := In(number)
+		v := rows.NewView(got)
+		if b, l, ok := in(v, f); !ok || rational.Cmp(b, bounds[number]) != 0 || !derive.ProvesIn(v, linear.Sub(f, api.Affine{Const: b}), l) {
+			t.Fatal("view", b, bounds)
 		}
 		if rational.Cmp(bounds[2], rational.Max(bounds[0], bounds[1])) != 0 {
 			t.Fatal("both")

@@ -20,7 +20,7 @@ import (
 type minimum struct {
 	query   api.Query
 	options api.Options
-	domain  domain.Domain
+	bound   domain.Bound
 	parts   []*rows.View
 	input   []api.Rat
 	value   api.Rat
@@ -33,7 +33,7 @@ func Least(q api.Query, o api.Options) (api.Rat, []api.Rat, api.Errno) {
 		return api.Rat{}, nil, api.ErrArg
 	}
 	m := &minimum{query: q, options: o, program: nodelp.SolveIn}
-	m.domain, _ = symbolic.Get(o.Domain)
+	m.bound, _ = symbolic.In(o.Domain)
 	if o.Cuts {
 		m.program = cuts.LoopIn
 	}
@@ -62,8 +62,8 @@ func (m *minimum) isWorse(bound api.Rat) bool {
 
 // examine drops a part or divides it.
 func (m *minimum) examine(v *rows.View) api.Errno {
-	domain.RunIn(m.domain, v, m.options.Bits)
-	if b, _, ok := domain.LowerIn(m.domain, v, m.query.Goal); ok && m.isWorse(b) {
+	domain.RunIn(m.bound, v, m.options.Bits)
+	if b, _, ok := m.bound(v, m.query.Goal); ok && m.isWorse(b) {
 		return api.OK
 	}
 	x, e := m.program(v, m.query.Goal)
