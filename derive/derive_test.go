@@ -157,6 +157,12 @@ func TestSoundness(t *testing.T) {
 		if !Proves(s, linear.Add(f, f), twice) {
 			t.Fatal("combination")
 		}
+		for i := range twice {
+			twice[i].Coef = rational.Mul(twice[i].Coef, frac(1, 6))
+		}
+		if third := linear.Scale(f, frac(1, 3)); !Proves(s, third, twice) || Refutes(s, twice) != Refutes(s, l) {
+			t.Fatal("multiple")
+		}
 		for i := range 13 {
 			x := []api.Rat{frac(i, 4)}
 			if !rows.Member(s, x) {

@@ -5,6 +5,7 @@ import (
 	"testing"
 
 	"relucert/api"
+	"relucert/box"
 	"relucert/derive"
 	"relucert/linear"
 	"relucert/rational"
@@ -119,6 +120,13 @@ func TestErrors(t *testing.T) {
 	}
 }
 
+// silent embeds a domain of this program, and has no bounds.
+type silent struct{ box.Domain }
+
+func (silent) Lower(s api.Scope, f api.Affine) (api.Rat, []api.Mult, bool) {
+	return api.Rat{}, nil, false
+}
+
 // counting embeds another domain and counts the calls of Lower.
 type counting struct {
 	inputs
@@ -136,6 +144,9 @@ func TestEmbedded(t *testing.T) {
 	s := sample("x0", api.Rat{}, rational.Of(1))
 	if got, e := Run(Both(d, nothing{}), s, 0); e != api.OK || calls != 2 || len(got.Lemmas) != 2 {
 		t.Error(calls, e)
+	}
+	if got, e := Run(silent{}, s, 0); e != api.OK || len(got.Lemmas) != 0 {
+		t.Error(got.Lemmas, e)
 	}
 }
 

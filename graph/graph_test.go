@@ -179,6 +179,11 @@ func TestSameFunction(t *testing.T) {
 				t.Fatal("unit", j)
 			}
 		}
+		for _, h := range append(changed, random(r)) {
+			if Equal(g, h) != (Text(g) == Text(h)) {
+				t.Fatal("text", text)
+			}
+		}
 		for _, h := range changed {
 			got, e := Outputs(h, x)
 			if e != api.OK || !slices.EqualFunc(got, want, equalFields) {

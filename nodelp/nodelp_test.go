@@ -2,6 +2,7 @@ package nodelp
 
 import (
 	"math/rand"
+	"slices"
 	"testing"
 
 	"relucert/api"
@@ -113,6 +114,15 @@ func TestParts(t *testing.T) {
 		}
 		if x.Status == api.LPOptimal && !derive.Proves(s, linear.Sub(f, api.Affine{Const: x.Value}), x.Proof) || x.Status == api.LPInfeasible && !derive.Refutes(s, x.Proof) {
 			t.Fatal("proof")
+		}
+		plain := s
+		plain.Lemmas = nil
+		before, _ := Solve(plain, f)
+		for _, further := range []api.Scope{s, {Query: q, Path: append(slices.Clone(s.Path), api.Decision{Kind: api.DecAbove, Index: 1, At: frac(1, 2)})}} {
+			after, _ := Solve(further, f)
+			if before.Status == api.LPInfeasible && after.Status != api.LPInfeasible || before.Status == api.LPOptimal && after.Status != api.LPInfeasible && rational.Cmp(after.Value, before.Value) < 0 {
+				t.Fatal("monotony", before, after)
+			}
 		}
 		if Exact(s) {
 			exact++

@@ -91,6 +91,9 @@ func TestWalk(t *testing.T) {
 			path[0] = api.Decision{}
 		}
 	}
+	if Size(n) != 2*Leaves(n)-1 || Size(n) != len(paths) {
+		t.Error("counting")
+	}
 	want := []string{"", "u0 on;", "u0 off;", "u0 off;x1 >= 2;", "u0 off;x1 <= 2;"}
 	if !slices.Equal(paths, want) {
 		t.Error(paths)

@@ -182,6 +182,7 @@ func TestRandom(t *testing.T) {
 		}
 		return l
 	}
+	monotone := 0
 	for range 60 {
 		m := api.Model{Input: []int{2}, Layers: []api.Layer{{Kind: api.LayerDense, Out: 3, Weights: weights(6), Bias: weights(3)}, {Kind: api.LayerRelu}, {Kind: api.LayerDense, Out: 2, Weights: weights(6), Bias: weights(2)}, {Kind: api.LayerRelu}, {Kind: api.LayerDense, Out: 3, Weights: weights(6), Bias: weights(3)}}}
 		g, e := Graph(m)
@@ -206,6 +207,15 @@ func TestRandom(t *testing.T) {
 				t.Fatal("margin", v.Status, d, e)
 			}
 		}
+		if small, e := region.Clip(reg, api.Decision{Kind: api.DecAbove, At: frac(1, 3)}); e == api.OK && rational.Sign(margin) > 0 {
+			for _, at := range []api.Rat{margin, rational.Mul(margin, frac(1, 2))} {
+				v, e := Verify(g, small, api.Claim{Kind: api.ClaimTop, Target: 1, Margin: at}, o)
+				if e != api.OK || v.Status != api.Proved {
+					t.Fatal("monotony", v.Status, e)
+				}
+				monotone++
+			}
+		}
 		over := form("x0 - 2*x1 + x2")
 		box, e := Range(g, reg, over, small)
 		if e != api.OK {
@@ -224,5 +234,8 @@ func TestRandom(t *testing.T) {
 				t.Fatal("range", v, box)
 			}
 		}
+	}
+	if monotone == 0 {
+		t.Error("no margin is positive")
 	}
 }
