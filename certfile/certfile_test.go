@@ -8,19 +8,13 @@ import (
 	"relucert/api"
 	"relucert/compress"
 	"relucert/digest"
-	"relucert/linear"
 	"relucert/rational"
+	"relucert/testkit"
 	"relucert/tree"
 	"relucert/wire"
 )
 
-func form(s string) api.Affine {
-	f, _, e := linear.Parse(s)
-	if e != api.OK {
-		panic(s)
-	}
-	return f
-}
+var form = testkit.Form
 
 func sample() api.Node {
 	half, _ := rational.Frac(-1, 2)

@@ -9,20 +9,13 @@ import (
 	"relucert/api"
 	"relucert/linear"
 	"relucert/rational"
+	"relucert/testkit"
 )
 
-func frac(a, b int) api.Rat {
-	x, _ := rational.Frac(a, b)
-	return x
-}
-
-func form(s string) api.Affine {
-	f, _, e := linear.Parse(s)
-	if e != api.OK {
-		panic(s)
-	}
-	return f
-}
+var (
+	frac = testkit.Frac
+	form = testkit.Form
+)
 
 func TestValid(t *testing.T) {
 	row := []api.Affine{form("x0")}

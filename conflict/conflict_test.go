@@ -15,20 +15,13 @@ import (
 	"relucert/rational"
 	"relucert/region"
 	"relucert/symbolic"
+	"relucert/testkit"
 )
 
-func frac(a, b int) api.Rat {
-	x, _ := rational.Frac(a, b)
-	return x
-}
-
-func form(s string) api.Affine {
-	f, _, e := linear.Parse(s)
-	if e != api.OK {
-		panic(s)
-	}
-	return f
-}
+var (
+	frac = testkit.Frac
+	form = testkit.Form
+)
 
 func mult(kind, unit, lo, hi int) api.Mult {
 	return api.Mult{Row: api.Row{Kind: kind, Index: unit, Lo: lo, Hi: hi}, Coef: rational.Of(1)}

@@ -10,20 +10,13 @@ import (
 	"relucert/linear"
 	"relucert/rational"
 	"relucert/rows"
+	"relucert/testkit"
 )
 
-func frac(a, b int) api.Rat {
-	x, _ := rational.Frac(a, b)
-	return x
-}
-
-func form(s string) api.Affine {
-	f, _, e := linear.Parse(s)
-	if e != api.OK {
-		panic(s)
-	}
-	return f
-}
+var (
+	frac = testkit.Frac
+	form = testkit.Form
+)
 
 func mult(kind, lo, hi int, c api.Rat) api.Mult {
 	return api.Mult{Row: api.Row{Kind: kind, Lo: lo, Hi: hi}, Coef: c}

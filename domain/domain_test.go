@@ -10,20 +10,13 @@ import (
 	"relucert/linear"
 	"relucert/rational"
 	"relucert/rows"
+	"relucert/testkit"
 )
 
-func frac(a, b int) api.Rat {
-	x, _ := rational.Frac(a, b)
-	return x
-}
-
-func form(s string) api.Affine {
-	f, _, e := linear.Parse(s)
-	if e != api.OK {
-		panic(s)
-	}
-	return f
-}
+var (
+	frac = testkit.Frac
+	form = testkit.Form
+)
 
 func sample(unit string, lo, hi api.Rat) api.Scope {
 	return api.Scope{Query: api.Query{Graph: api.Graph{Inputs: 1, Units: []api.Affine{form(unit)}, Outputs: []api.Affine{form("x1")}}, Region: api.Region{Lo: []api.Rat{lo}, Hi: []api.Rat{hi}}, Goal: form("x1")}}

@@ -6,20 +6,13 @@ import (
 	"relucert/api"
 	"relucert/linear"
 	"relucert/rational"
+	"relucert/testkit"
 )
 
-func frac(a, b int) api.Rat {
-	x, _ := rational.Frac(a, b)
-	return x
-}
-
-func rats(x ...int) []api.Rat {
-	var l []api.Rat
-	for _, n := range x {
-		l = append(l, rational.Of(n))
-	}
-	return l
-}
+var (
+	frac = testkit.Frac
+	rats = testkit.Rats
+)
 
 func lp(vars int, objective string, rows ...string) api.Program {
 	p := api.Program{Vars: vars}

@@ -13,21 +13,14 @@ import (
 	"relucert/kernel"
 	"relucert/rational"
 	"relucert/region"
+	"relucert/testkit"
 	"relucert/verify"
 )
 
-func frac(a, b int) api.Rat {
-	x, _ := rational.Frac(a, b)
-	return x
-}
-
-func rats(x ...int) []api.Rat {
-	var l []api.Rat
-	for _, n := range x {
-		l = append(l, rational.Of(n))
-	}
-	return l
-}
+var (
+	frac = testkit.Frac
+	rats = testkit.Rats
+)
 
 func parse(s string) api.Claim {
 	c, _, e := claim.Parse(s)

@@ -7,20 +7,13 @@ import (
 
 	"relucert/api"
 	"relucert/rational"
+	"relucert/testkit"
 )
 
-func rats(x ...int) []api.Rat {
-	var l []api.Rat
-	for _, n := range x {
-		l = append(l, rational.Of(n))
-	}
-	return l
-}
-
-func frac(a, b int) api.Rat {
-	x, _ := rational.Frac(a, b)
-	return x
-}
+var (
+	frac = testkit.Frac
+	rats = testkit.Rats
+)
 
 func same(a, b []api.Rat) bool {
 	return slices.EqualFunc(a, b, func(x, y api.Rat) bool { return rational.Valid(x) && rational.Cmp(x, y) == 0 })

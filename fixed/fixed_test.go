@@ -10,12 +10,10 @@ import (
 	"relucert/api"
 	"relucert/natural"
 	"relucert/rational"
+	"relucert/testkit"
 )
 
-func frac(a, b int) api.Rat {
-	x, _ := rational.Frac(a, b)
-	return x
-}
+var frac = testkit.Frac
 
 func TestExamples(t *testing.T) {
 	for _, c := range []struct {

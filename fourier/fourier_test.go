@@ -9,23 +9,13 @@ import (
 	"relucert/api"
 	"relucert/linear"
 	"relucert/rational"
+	"relucert/testkit"
 )
 
-func form(s string) api.Affine {
-	f, _, e := linear.Parse(s)
-	if e != api.OK {
-		panic(s)
-	}
-	return f
-}
-
-func forms(l ...string) []api.Affine {
-	var out []api.Affine
-	for _, s := range l {
-		out = append(out, form(s))
-	}
-	return out
-}
+var (
+	form  = testkit.Form
+	forms = testkit.Forms
+)
 
 func equal(a, b []api.Affine) bool { return slices.EqualFunc(a, b, linear.Equal) }
 

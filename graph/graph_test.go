@@ -8,7 +8,10 @@ import (
 	"relucert/api"
 	"relucert/linear"
 	"relucert/rational"
+	"relucert/testkit"
 )
+
+var frac = testkit.Frac
 
 func forms(t *testing.T, l ...string) []api.Affine {
 	t.Helper()
@@ -25,11 +28,6 @@ func forms(t *testing.T, l ...string) []api.Affine {
 
 func maximum(t *testing.T) api.Graph {
 	return api.Graph{Inputs: 2, Units: forms(t, "x0 - x1"), Outputs: forms(t, "x1 + x2")}
-}
-
-func frac(a, b int) api.Rat {
-	x, _ := rational.Frac(a, b)
-	return x
 }
 
 func TestValid(t *testing.T) {

@@ -9,15 +9,10 @@ import (
 	"relucert/evaluate"
 	"relucert/graph"
 	"relucert/rational"
+	"relucert/testkit"
 )
 
-func rats(x ...int) []api.Rat {
-	var l []api.Rat
-	for _, n := range x {
-		l = append(l, rational.Of(n))
-	}
-	return l
-}
+var rats = testkit.Rats
 
 func random(r *rand.Rand, n int) []api.Rat {
 	var l []api.Rat

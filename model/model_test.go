@@ -8,15 +8,10 @@ import (
 	"relucert/digest"
 	"relucert/natural"
 	"relucert/rational"
+	"relucert/testkit"
 )
 
-func rats(x ...int) []api.Rat {
-	var l []api.Rat
-	for _, n := range x {
-		l = append(l, rational.Of(n))
-	}
-	return l
-}
+var rats = testkit.Rats
 
 func sample() api.Model {
 	half, _ := rational.Frac(-1, 2)

@@ -9,24 +9,15 @@ import (
 	"relucert/graph"
 	"relucert/linear"
 	"relucert/rational"
+	"relucert/testkit"
 )
+
+var forms = testkit.Forms
 
 const (
 	on  = api.PhaseOn
 	off = api.PhaseOff
 )
-
-func forms(l ...string) []api.Affine {
-	var out []api.Affine
-	for _, s := range l {
-		f, _, e := linear.Parse(s)
-		if e != api.OK {
-			panic(s)
-		}
-		out = append(out, f)
-	}
-	return out
-}
 
 func equal(a, b []api.Affine) bool { return slices.EqualFunc(a, b, linear.Equal) }
 

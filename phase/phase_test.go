@@ -7,13 +7,10 @@ import (
 
 	"relucert/api"
 	"relucert/linear"
-	"relucert/rational"
+	"relucert/testkit"
 )
 
-func frac(a, b int) api.Rat {
-	x, _ := rational.Frac(a, b)
-	return x
-}
+var frac = testkit.Frac
 
 func same(a, b api.Decision) bool {
 	return a.Kind == b.Kind && a.Index == b.Index && a.At.Neg == b.At.Neg && slices.Equal(a.At.Num, b.At.Num) && slices.Equal(a.At.Den, b.At.Den)

@@ -5,25 +5,14 @@ import (
 	"testing"
 
 	"relucert/api"
-	"relucert/linear"
 	"relucert/rational"
+	"relucert/testkit"
 )
 
-func form(s string) api.Affine {
-	f, _, e := linear.Parse(s)
-	if e != api.OK {
-		panic(s)
-	}
-	return f
-}
-
-func forms(l ...string) []api.Affine {
-	var out []api.Affine
-	for _, s := range l {
-		out = append(out, form(s))
-	}
-	return out
-}
+var (
+	form  = testkit.Form
+	forms = testkit.Forms
+)
 
 func TestExample(t *testing.T) {
 	p := api.Program{Vars: 1, Objective: form("x0"), Rows: forms("x0 - 1", "3 - x0")}

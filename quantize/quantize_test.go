@@ -11,20 +11,13 @@ import (
 	"relucert/fixed"
 	"relucert/interval"
 	"relucert/rational"
+	"relucert/testkit"
 )
 
-func frac(a, b int) api.Rat {
-	x, _ := rational.Frac(a, b)
-	return x
-}
-
-func rats(x ...int) []api.Rat {
-	var l []api.Rat
-	for _, n := range x {
-		l = append(l, rational.Of(n))
-	}
-	return l
-}
+var (
+	frac = testkit.Frac
+	rats = testkit.Rats
+)
 
 func box(n, lo, hi int) api.Region {
 	return api.Region{Lo: slices.Repeat(rats(lo), n), Hi: slices.Repeat(rats(hi), n)}

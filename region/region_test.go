@@ -6,30 +6,15 @@ import (
 	"testing"
 
 	"relucert/api"
-	"relucert/linear"
 	"relucert/rational"
+	"relucert/testkit"
 )
 
-func frac(a, b int) api.Rat {
-	x, _ := rational.Frac(a, b)
-	return x
-}
-
-func rats(x ...int) []api.Rat {
-	var l []api.Rat
-	for _, n := range x {
-		l = append(l, rational.Of(n))
-	}
-	return l
-}
-
-func form(s string) api.Affine {
-	f, _, e := linear.Parse(s)
-	if e != api.OK {
-		panic(s)
-	}
-	return f
-}
+var (
+	frac = testkit.Frac
+	rats = testkit.Rats
+	form = testkit.Form
+)
 
 func same(a, b []api.Rat) bool {
 	return slices.EqualFunc(a, b, func(x, y api.Rat) bool { return rational.Valid(x) && rational.Cmp(x, y) == 0 })

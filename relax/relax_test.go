@@ -5,12 +5,10 @@ import (
 
 	"relucert/api"
 	"relucert/rational"
+	"relucert/testkit"
 )
 
-func frac(a, b int) api.Rat {
-	x, _ := rational.Frac(a, b)
-	return x
-}
+var frac = testkit.Frac
 
 func same(a, b api.Rat) bool { return rational.Valid(a) && rational.Cmp(a, b) == 0 }
 

@@ -11,21 +11,14 @@ import (
 	"relucert/linear"
 	"relucert/rational"
 	"relucert/search"
+	"relucert/testkit"
 	"relucert/tree"
 )
 
-func frac(a, b int) api.Rat {
-	x, _ := rational.Frac(a, b)
-	return x
-}
-
-func form(s string) api.Affine {
-	f, _, e := linear.Parse(s)
-	if e != api.OK {
-		panic(s)
-	}
-	return f
-}
+var (
+	frac = testkit.Frac
+	form = testkit.Form
+)
 
 func mult(kind, index, lo, hi int) api.Mult {
 	return api.Mult{Row: api.Row{Kind: kind, Index: index, Lo: lo, Hi: hi}, Coef: rational.Of(1)}

@@ -9,20 +9,13 @@ import (
 	"relucert/graph"
 	"relucert/linear"
 	"relucert/rational"
+	"relucert/testkit"
 )
 
-func frac(a, b int) api.Rat {
-	x, _ := rational.Frac(a, b)
-	return x
-}
-
-func form(s string) api.Affine {
-	f, _, e := linear.Parse(s)
-	if e != api.OK {
-		panic(s)
-	}
-	return f
-}
+var (
+	frac = testkit.Frac
+	form = testkit.Form
+)
 
 // sample has one input from 0 to 3 and the unit x0 - 1.
 func sample() api.Scope {

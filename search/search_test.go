@@ -15,20 +15,13 @@ import (
 	"relucert/region"
 	"relucert/rows"
 	"relucert/simplex"
+	"relucert/testkit"
 )
 
-func frac(a, b int) api.Rat {
-	x, _ := rational.Frac(a, b)
-	return x
-}
-
-func form(s string) api.Affine {
-	f, _, e := linear.Parse(s)
-	if e != api.OK {
-		panic(s)
-	}
-	return f
-}
+var (
+	frac = testkit.Frac
+	form = testkit.Form
+)
 
 func example(goal string) api.Query {
 	return api.Query{Graph: api.Graph{Inputs: 1, Units: []api.Affine{form("x0"), form("-x0")}, Outputs: []api.Affine{form("x1")}}, Region: api.Region{Lo: []api.Rat{rational.Of(-1)}, Hi: []api.Rat{rational.Of(1)}}, Goal: form(goal)}

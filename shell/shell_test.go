@@ -8,16 +8,10 @@ import (
 
 	"relucert/api"
 	"relucert/model"
-	"relucert/rational"
+	"relucert/testkit"
 )
 
-func rats(x ...int) []api.Rat {
-	var l []api.Rat
-	for _, n := range x {
-		l = append(l, rational.Of(n))
-	}
-	return l
-}
+var rats = testkit.Rats
 
 func file(t *testing.T, name string, m api.Model) api.File {
 	t.Helper()

@@ -11,12 +11,10 @@ import (
 	"relucert/linear"
 	"relucert/program"
 	"relucert/rational"
+	"relucert/testkit"
 )
 
-func frac(a, b int) api.Rat {
-	x, _ := rational.Frac(a, b)
-	return x
-}
+var frac = testkit.Frac
 
 func lp(vars int, objective string, rows ...string) api.Program {
 	p := api.Program{Vars: vars}

@@ -6,24 +6,16 @@ import (
 	"testing"
 
 	"relucert/api"
-	"relucert/linear"
 	"relucert/phase"
 	"relucert/rational"
 	"relucert/rows"
+	"relucert/testkit"
 )
 
-func frac(a, b int) api.Rat {
-	x, _ := rational.Frac(a, b)
-	return x
-}
-
-func form(s string) api.Affine {
-	f, _, e := linear.Parse(s)
-	if e != api.OK {
-		panic(s)
-	}
-	return f
-}
+var (
+	frac = testkit.Frac
+	form = testkit.Form
+)
 
 // sample has two open units with the gaps 1/2 and 1.
 func sample() api.Scope {

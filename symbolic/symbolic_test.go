@@ -11,22 +11,15 @@ import (
 	"relucert/linear"
 	"relucert/rational"
 	"relucert/rows"
+	"relucert/testkit"
+)
+
+var (
+	frac = testkit.Frac
+	form = testkit.Form
 )
 
 var _ domain.Domain = Domain{}
-
-func frac(a, b int) api.Rat {
-	x, _ := rational.Frac(a, b)
-	return x
-}
-
-func form(s string) api.Affine {
-	f, _, e := linear.Parse(s)
-	if e != api.OK {
-		panic(s)
-	}
-	return f
-}
 
 func example() api.Scope {
 	s := api.Scope{Query: api.Query{Graph: api.Graph{Inputs: 1, Units: []api.Affine{form("x0"), form("-x0")}, Outputs: []api.Affine{form("x1")}}, Region: api.Region{Lo: []api.Rat{rational.Of(-1)}, Hi: []api.Rat{rational.Of(1)}}, Goal: form("x1")}}

@@ -97,6 +97,16 @@ func TestWindows(t *testing.T) {
 	}
 }
 
+func TestGroups(t *testing.T) {
+	g, e := Groups([]int{2, 1, 3}, 1, 2, 1)
+	if e != api.OK || !slices.EqualFunc(g, [][]int{{0, 1}, {1, 2}, {3, 4}, {4, 5}}, slices.Equal) {
+		t.Error(g, e)
+	}
+	if g, e := Groups([]int{4}, 1, 1, 1); e != api.ErrShape || len(g) != 0 {
+		t.Error(g, e)
+	}
+}
+
 func TestCover(t *testing.T) {
 	w, rows, cols, _ := Windows([]int{2, 4, 5}, 2, 3, 1, 0)
 	for i, a := range w {

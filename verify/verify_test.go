@@ -12,28 +12,14 @@ import (
 	"relucert/rational"
 	"relucert/region"
 	"relucert/rows"
+	"relucert/testkit"
 )
 
-func frac(a, b int) api.Rat {
-	x, _ := rational.Frac(a, b)
-	return x
-}
-
-func form(s string) api.Affine {
-	f, _, e := linear.Parse(s)
-	if e != api.OK {
-		panic(s)
-	}
-	return f
-}
-
-func rats(x ...int) []api.Rat {
-	var l []api.Rat
-	for _, n := range x {
-		l = append(l, rational.Of(n))
-	}
-	return l
-}
+var (
+	frac = testkit.Frac
+	rats = testkit.Rats
+	form = testkit.Form
+)
 
 func maximum() api.Graph {
 	return api.Graph{Inputs: 2, Units: []api.Affine{form("x0 - x1")}, Outputs: []api.Affine{form("x1 + x2")}}

@@ -10,15 +10,10 @@ import (
 	"relucert/program"
 	"relucert/rational"
 	"relucert/simplex"
+	"relucert/testkit"
 )
 
-func form(s string) api.Affine {
-	f, _, e := linear.Parse(s)
-	if e != api.OK {
-		panic(s)
-	}
-	return f
-}
+var form = testkit.Form
 
 func check(t *testing.T, s *Solver, status int, value api.Rat) {
 	t.Helper()

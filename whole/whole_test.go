@@ -24,31 +24,17 @@ import (
 	"relucert/search"
 	"relucert/shell"
 	"relucert/simplify"
+	"relucert/testkit"
 	"relucert/tree"
 	"relucert/trim"
 	"relucert/verify"
 )
 
-func frac(a, b int) api.Rat {
-	x, _ := rational.Frac(a, b)
-	return x
-}
-
-func rats(x ...int) []api.Rat {
-	var l []api.Rat
-	for _, n := range x {
-		l = append(l, rational.Of(n))
-	}
-	return l
-}
-
-func form(s string) api.Affine {
-	f, _, e := linear.Parse(s)
-	if e != api.OK {
-		panic(s)
-	}
-	return f
-}
+var (
+	frac = testkit.Frac
+	rats = testkit.Rats
+	form = testkit.Form
+)
 
 func parse(s string) api.Claim {
 	c, _, e := claim.Parse(s)
