@@ -25,16 +25,25 @@ func options() api.Options {
 	return api.Options{Domain: defaultDomain, Learn: true, Nodes: api.MaxNodes}
 }
 
-func (s *state) loadModel(c command) (string, api.Errno) {
+// read returns the name of a file, which is the only word of a command, and its data.
+func (s *state) read(c command) (string, []byte, api.Errno) {
 	name, e := c.name()
 	if e != api.OK {
-		return "", e
+		return "", nil, e
 	}
 	at := s.find(name)
 	if at < 0 {
-		return "", api.ErrNone
+		return "", nil, api.ErrNone
 	}
-	m, e := model.Decode(s.files[at].Data)
+	return name, s.files[at].Data, api.OK
+}
+
+func (s *state) loadModel(c command) (string, api.Errno) {
+	_, data, e := s.read(c)
+	if e != api.OK {
+		return "", e
+	}
+	m, e := model.Decode(data)
 	if e != api.OK {
 		return "", e
 	}
@@ -191,15 +200,11 @@ func (s *state) save(c command) (string, api.Errno) {
 }
 
 func (s *state) load(c command) (string, api.Errno) {
-	name, e := c.name()
+	name, data, e := s.read(c)
 	if e != api.OK {
 		return "", e
 	}
-	at := s.find(name)
-	if at < 0 {
-		return "", api.ErrNone
-	}
-	cert, e := certfile.Decode(s.files[at].Data)
+	cert, e := certfile.Decode(data)
 	if e != api.OK {
 		return "", e
 	}
